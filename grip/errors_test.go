@@ -1,0 +1,155 @@
+package grip_test
+
+import (
+	"slices"
+	"strings"
+	"testing"
+
+	"grip/api"
+	"grip/grip"
+)
+
+// P1: nothing panics, and with an error nothing is changed and every other
+// result is nought.
+func TestP1RefusedChangesNothing(t *testing.T) {
+	h := newHeap(t, 100)
+	h.Array(3)
+	h.Bytes("some text")
+	h.Table(2)
+	for _, n := range append([]int{-1, -2, 17, 18}, greatNumbers...) {
+		checkUnchanged(t, h, "Array", func() { checkNumber(t, "P1: Array", 0, api.ErrSize)(h.Array(n)) })
+	}
+	for _, n := range append([]int{-1, -2, 9, 10, 16}, greatNumbers...) {
+		checkUnchanged(t, h, "Table", func() { checkNumber(t, "P1: Table", 0, api.ErrSize)(h.Table(n)) })
+	}
+	for _, n := range []int{65, 66, 128, 65536, 1 << 23} {
+		s := strings.Repeat("\x01", n)
+		checkUnchanged(t, h, "Bytes", func() { checkNumber(t, "P1: Bytes", 0, api.ErrSize)(h.Bytes(s)) })
+	}
+	for _, x := range append([]int{3, 31, 32, 33, 34, 64, -1, -29, -32}, greatNumbers...) {
+		checkUnchanged(t, h, "a number that is no handle", func() { checkStale(t, h, x) })
+	}
+	checkUnchanged(t, h, "Text", func() { checkText(t, "P1: Text of an array", "", api.ErrKind)(h.Text(0)) })
+	// A slot that a refused call had taken would show here.
+	checkNumber(t, "P1: the next handle", 3, api.OK)(h.Array(0))
+	checkNumber(t, "P1: its place", 20, api.OK)(h.Place(3))
+}
+
+func checkStale(t *testing.T, h *grip.Heap, x int) {
+	t.Helper()
+	checkNumber(t, "P1: Kind of no handle", 0, api.ErrStale)(h.Kind(x))
+	checkNumber(t, "P1: Len of no handle", 0, api.ErrStale)(h.Len(x))
+	checkNumber(t, "P1: Place of no handle", 0, api.ErrStale)(h.Place(x))
+	checkText(t, "P1: Text of no handle", "", api.ErrStale)(h.Text(x))
+}
+
+// P1: a number is a handle's only once the handle is made.
+func TestP1StaleUntilMade(t *testing.T) {
+	h := newHeap(t, 100)
+	for x := 0; x < api.MaxHandles; x++ {
+		checkStale(t, h, x)
+		checkNumber(t, "P1: Array(0)", x, api.OK)(h.Array(0))
+		checkNumber(t, "P1: Kind", api.Array, api.OK)(h.Kind(x))
+		checkStale(t, h, x+api.MaxHandles)
+	}
+}
+
+// P1: ErrSize goes ahead of ErrHandles, and that ahead of ErrMemory.
+func TestP1OrderOfErrors(t *testing.T) {
+	h := newHeap(t, 32)
+	for x := 0; x < api.MaxHandles; x++ {
+		h.Array(0)
+	}
+	checkUnchanged(t, h, "a call with all slots taken", func() {
+		checkNumber(t, "P1: Array(17)", 0, api.ErrSize)(h.Array(17))
+		checkNumber(t, "P1: Array(-1)", 0, api.ErrSize)(h.Array(-1))
+		checkNumber(t, "P1: Table(9)", 0, api.ErrSize)(h.Table(9))
+		checkNumber(t, "P1: Table(-1)", 0, api.ErrSize)(h.Table(-1))
+		checkNumber(t, "P1: Bytes of 65", 0, api.ErrSize)(h.Bytes(strings.Repeat("a", 65)))
+		checkNumber(t, "P1: Array(16)", 0, api.ErrHandles)(h.Array(16))
+		checkNumber(t, "P1: Array(0)", 0, api.ErrHandles)(h.Array(0))
+		checkNumber(t, "P1: Table(8)", 0, api.ErrHandles)(h.Table(8))
+		checkNumber(t, "P1: Table(0)", 0, api.ErrHandles)(h.Table(0))
+		checkNumber(t, "P1: Bytes of 64", 0, api.ErrHandles)(h.Bytes(strings.Repeat("a", 64)))
+		checkNumber(t, "P1: Bytes of none", 0, api.ErrHandles)(h.Bytes(""))
+	})
+}
+
+// P1: ErrSize goes ahead of ErrMemory.
+func TestP1SizeAheadOfMemory(t *testing.T) {
+	h := newHeap(t, 1)
+	h.Array(0)
+	checkNumber(t, "P1: Array(17)", 0, api.ErrSize)(h.Array(17))
+	checkNumber(t, "P1: Table(9)", 0, api.ErrSize)(h.Table(9))
+	checkNumber(t, "P1: Bytes of 65", 0, api.ErrSize)(h.Bytes(strings.Repeat("a", 65)))
+	checkNumber(t, "P1: the heap is good yet", api.Array, api.OK)(h.Kind(0))
+}
+
+// P1: ErrPoisoned goes ahead of all others.
+func TestP1PoisonedAheadOfAll(t *testing.T) {
+	h := newHeap(t, 9)
+	checkNumber(t, "Array(4)", 0, api.OK)(h.Array(4))
+	checkNumber(t, "P13: Array(0) without a word left", 0, api.ErrMemory)(h.Array(0))
+	for _, n := range append([]int{-1, 0, 1, 17, 32}, greatNumbers...) {
+		checkNumber(t, "P1: Array", 0, api.ErrPoisoned)(h.Array(n))
+		checkNumber(t, "P1: Table", 0, api.ErrPoisoned)(h.Table(n))
+		checkNumber(t, "P1: Kind", 0, api.ErrPoisoned)(h.Kind(n))
+		checkNumber(t, "P1: Len", 0, api.ErrPoisoned)(h.Len(n))
+		checkNumber(t, "P1: Place", 0, api.ErrPoisoned)(h.Place(n))
+		checkText(t, "P1: Text", "", api.ErrPoisoned)(h.Text(n))
+	}
+	checkNumber(t, "P1: Bytes", 0, api.ErrPoisoned)(h.Bytes(""))
+	checkNumber(t, "P1: Bytes", 0, api.ErrPoisoned)(h.Bytes(strings.Repeat("a", 65)))
+	if l, e := h.Words(); l != nil || e != api.ErrPoisoned {
+		t.Errorf("P1: Words = %v, error %d", l, e)
+	}
+}
+
+// P13: the words may be used up to the last, for each kind of object; one
+// more is ErrMemory.
+func TestP13Limit(t *testing.T) {
+	calls := []struct {
+		what string
+		need int
+		call func(h *grip.Heap) (int, api.Errno)
+	}{
+		{"Array(0)", 1, func(h *grip.Heap) (int, api.Errno) { return h.Array(0) }},
+		{"Array(4)", 9, func(h *grip.Heap) (int, api.Errno) { return h.Array(4) }},
+		{"Array(16)", 33, func(h *grip.Heap) (int, api.Errno) { return h.Array(16) }},
+		{"Bytes of 0", 1, func(h *grip.Heap) (int, api.Errno) { return h.Bytes("") }},
+		{"Bytes of 8", 2, func(h *grip.Heap) (int, api.Errno) { return h.Bytes("12345678") }},
+		{"Bytes of 9", 3, func(h *grip.Heap) (int, api.Errno) { return h.Bytes("123456789") }},
+		{"Table(0)", 2, func(h *grip.Heap) (int, api.Errno) { return h.Table(0) }},
+		{"Table(8)", 34, func(h *grip.Heap) (int, api.Errno) { return h.Table(8) }},
+	}
+	for _, c := range calls {
+		h := newHeap(t, 3+c.need)
+		h.Array(1)
+		checkNumber(t, "P13: "+c.what, 1, api.OK)(c.call(h))
+		checkNumber(t, "P13: its place", 3, api.OK)(h.Place(1))
+		h = newHeap(t, 2+c.need)
+		h.Array(1)
+		checkNumber(t, "P13: "+c.what+" with a word too few", 0, api.ErrMemory)(c.call(h))
+		checkNumber(t, "P13: once more", 0, api.ErrPoisoned)(c.call(h))
+		checkNumber(t, "P13: Kind", 0, api.ErrPoisoned)(h.Kind(0))
+	}
+}
+
+// P13: the flags of these calls, which leave nothing unreachable, change
+// nothing.
+func TestP13FlagsWithoutAnythingGone(t *testing.T) {
+	plain := newHeap(t, 60)
+	flagged := newHeap(t, 60, true, false, true)
+	for _, h := range []*grip.Heap{plain, flagged} {
+		h.Array(2)
+		h.Bytes("hello")
+		h.Table(1)
+		h.Array(0)
+		h.Bytes("0123456789")
+	}
+	words, list := look(plain)
+	wordsThen, listThen := look(flagged)
+	if !slices.Equal(words, wordsThen) || !slices.Equal(list, listThen) {
+		t.Errorf("P13: %v with flags, %v without", wordsThen, words)
+	}
+}

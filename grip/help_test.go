@@ -1,0 +1,83 @@
+package grip_test
+
+import (
+	"slices"
+	"testing"
+
+	"grip/api"
+	"grip/grip"
+)
+
+var greatNumbers = []int{-1 << 63, -1<<63 + 1, -1 << 32, -65536, 1 << 31, 1 << 32, 1 << 61, 1 << 62, 1<<63 - 32, 1<<63 - 1}
+
+func newHeap(t *testing.T, limit int, flags ...bool) *grip.Heap {
+	t.Helper()
+	h, e := grip.New(limit, flags)
+	if h == nil || e != api.OK {
+		t.Fatalf("New(%d, %v) = %v, %d", limit, flags, h, e)
+	}
+	return h
+}
+
+// checkNumber looks at what a call answered: a number, or 0 and an error.
+func checkNumber(t *testing.T, what string, want int, wantErr api.Errno) func(int, api.Errno) {
+	return func(n int, e api.Errno) {
+		t.Helper()
+		if n != want || e != wantErr {
+			t.Errorf("%s = %d, error %d; want %d, error %d", what, n, e, want, wantErr)
+		}
+	}
+}
+
+func checkText(t *testing.T, what string, want string, wantErr api.Errno) func(string, api.Errno) {
+	return func(s string, e api.Errno) {
+		t.Helper()
+		if s != want || e != wantErr {
+			t.Errorf("%s = %q, error %d; want %q, error %d", what, s, e, want, wantErr)
+		}
+	}
+}
+
+func checkWords(t *testing.T, h *grip.Heap, want ...int) {
+	t.Helper()
+	l, e := h.Words()
+	if !slices.Equal(l, want) || e != api.OK {
+		t.Errorf("Words = %v, error %d; want %v", l, e, want)
+	}
+}
+
+// facts is what can be seen of a handle.
+type facts struct {
+	kind, length, place     int
+	text                    string
+	kindE, lenE, placeE, tE api.Errno
+}
+
+// look tells all that can be seen of a heap: its words, and of each number
+// that could be a handle's in its slots' first two rounds, and below 0, what
+// the calls answer.
+func look(h *grip.Heap) ([]int, []facts) {
+	words, _ := h.Words()
+	list := []facts{}
+	for x := -3; x < 2*api.MaxHandles; x++ {
+		f := facts{}
+		f.kind, f.kindE = h.Kind(x)
+		f.length, f.lenE = h.Len(x)
+		f.place, f.placeE = h.Place(x)
+		f.text, f.tE = h.Text(x)
+		list = append(list, f)
+	}
+	return words, list
+}
+
+// checkUnchanged runs a call that is to be refused, and compares what can be
+// seen of the heap ahead of it and behind it.
+func checkUnchanged(t *testing.T, h *grip.Heap, what string, call func()) {
+	t.Helper()
+	words, list := look(h)
+	call()
+	wordsThen, listThen := look(h)
+	if !slices.Equal(words, wordsThen) || !slices.Equal(list, listThen) {
+		t.Errorf("%s was refused, and changed the heap", what)
+	}
+}
