@@ -97,6 +97,15 @@ func TestP1PoisonedAheadOfAll(t *testing.T) {
 		checkNumber(t, "P1: Len", 0, api.ErrPoisoned)(h.Len(n))
 		checkNumber(t, "P1: Place", 0, api.ErrPoisoned)(h.Place(n))
 		checkText(t, "P1: Text", "", api.ErrPoisoned)(h.Text(n))
+		checkValue(t, "P1: Get", none, api.ErrPoisoned)(h.Get(n, n))
+		checkValue(t, "P1: Key", none, api.ErrPoisoned)(h.Key(n, n))
+		checkSame(t, "P1: Same", false, api.ErrPoisoned)(h.Same(n, 0))
+		checkSame(t, "P1: Same", false, api.ErrPoisoned)(h.Same(0, n))
+		for _, v := range append([]api.Value{none, num(n), obj(n), obj(0)}, noValues...) {
+			checkError(t, "P1: Set", api.ErrPoisoned, h.Set(n, n, v))
+			checkTableCalls(t, h, n, v, num(1), api.ErrPoisoned)
+			checkTableCalls(t, h, n, num(1), v, api.ErrPoisoned)
+		}
 	}
 	checkNumber(t, "P1: Bytes", 0, api.ErrPoisoned)(h.Bytes(""))
 	checkNumber(t, "P1: Bytes", 0, api.ErrPoisoned)(h.Bytes(strings.Repeat("a", 65)))

@@ -35,8 +35,9 @@ func (h *Heap) add(kind int, size int, most int) (int, api.Errno) {
 	if h.slots.Full() {
 		return 0, api.ErrHandles
 	}
-	// No call ends a handle yet: every object is reachable, and lies in the
-	// order of the slots. So collecting (P13) would change nothing here.
+	// No call ends a handle yet: every object is reachable, by the handle that
+	// it was made with, which has its lowest slot; so the objects lie in the
+	// order of the slots, and collecting (P13) would change nothing here.
 	place, fits := h.memory.Add(kind, size)
 	if !fits {
 		h.poisoned = true
@@ -138,26 +139,19 @@ func (h *Heap) Words() ([]int, api.Errno) {
 	return h.memory.Words(), api.OK
 }
 
-// Get reads an element of an array (P7).
-func (h *Heap) Get(x int, i int) (api.Value, api.Errno) { return api.Value{}, api.OK }
-
-// Set changes an element of an array (P7).
-func (h *Heap) Set(x int, i int, v api.Value) api.Errno { return api.OK }
-
-// Find reads a table (P8).
-func (h *Heap) Find(x int, k api.Value) (api.Value, api.Errno) { return api.Value{}, api.OK }
-
-// Put changes a table (P8).
-func (h *Heap) Put(x int, k api.Value, v api.Value) api.Errno { return api.OK }
-
-// Cut takes a key out of a table (P8).
-func (h *Heap) Cut(x int, k api.Value) api.Errno { return api.OK }
-
-// Key tells a table's i-th key (P8).
-func (h *Heap) Key(x int, i int) (api.Value, api.Errno) { return api.Value{}, api.OK }
-
-// Same tells whether two handles have one object (P9).
-func (h *Heap) Same(x int, y int) (bool, api.Errno) { return false, api.OK }
+// Same tells whether two handles have one object (P9). No two objects lie at
+// one place, so the place tells the object.
+func (h *Heap) Same(x int, y int) (bool, api.Errno) {
+	place, e := h.find(x)
+	if e != api.OK {
+		return false, e
+	}
+	other, e := h.find(y)
+	if e != api.OK {
+		return false, e
+	}
+	return place == other, api.OK
+}
 
 // Open opens a scope (P10).
 func (h *Heap) Open() (int, api.Errno) { return 0, api.OK }

@@ -38,6 +38,43 @@ func checkText(t *testing.T, what string, want string, wantErr api.Errno) func(s
 	}
 }
 
+func num(n int) api.Value { return api.Value{Kind: api.Int, N: n} }
+func obj(x int) api.Value { return api.Value{Kind: api.Obj, N: x} }
+
+var none api.Value
+
+// noValues have kinds that no value has.
+var noValues = []api.Value{{Kind: 3}, {Kind: -1}, {Kind: 3, N: 1}, {Kind: 4, N: 99}, {Kind: 1 << 32}, {Kind: 1<<32 + 1}, {Kind: 1<<62 + 2}, {Kind: -1 << 63}, {Kind: 1<<63 - 1}}
+
+// noHandles are no handles' numbers where only the slots 0 to 5 were given,
+// and those once.
+var noHandles = append([]int{6, 31, 32, 33, 36, 64, 65, -1, -2, -31, -32}, greatNumbers...)
+
+func checkValue(t *testing.T, what string, want api.Value, wantErr api.Errno) func(api.Value, api.Errno) {
+	return func(v api.Value, e api.Errno) {
+		t.Helper()
+		if v != want || e != wantErr {
+			t.Errorf("%s = %v, error %d; want %v, error %d", what, v, e, want, wantErr)
+		}
+	}
+}
+
+func checkSame(t *testing.T, what string, want bool, wantErr api.Errno) func(bool, api.Errno) {
+	return func(same bool, e api.Errno) {
+		t.Helper()
+		if same != want || e != wantErr {
+			t.Errorf("%s = %v, error %d; want %v, error %d", what, same, e, want, wantErr)
+		}
+	}
+}
+
+func checkError(t *testing.T, what string, want api.Errno, e api.Errno) {
+	t.Helper()
+	if e != want {
+		t.Errorf("%s: error %d, want %d", what, e, want)
+	}
+}
+
 func checkWords(t *testing.T, h *grip.Heap, want ...int) {
 	t.Helper()
 	l, e := h.Words()

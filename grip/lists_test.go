@@ -113,3 +113,27 @@ func TestP2HeapsAreApart(t *testing.T) {
 		t.Errorf("P2: Words = %v beside another heap, %v alone", words, want)
 	}
 }
+
+// P2: the same for the calls that change words.
+func TestP2WordsAndChanges(t *testing.T) {
+	h := newHeap(t, 100)
+	h.Array(2)
+	h.Table(2)
+	ahead, _ := h.Words()
+	want := slices.Clone(ahead)
+	h.Set(0, 1, num(5))
+	h.Put(1, num(6), obj(0))
+	h.Put(1, num(7), num(8))
+	h.Cut(1, num(6))
+	if !slices.Equal(ahead, want) {
+		t.Errorf("P2: a list became %v, was %v", ahead, want)
+	}
+	behind, _ := h.Words()
+	for i := range behind {
+		behind[i] = 1
+	}
+	checkWords(t, h, 65538, 0, 0, 1, 5, 196610, 1, 1, 7, 1, 8, 0, 0, 0, 0)
+	checkValue(t, "P2: Get", num(5), api.OK)(h.Get(0, 1))
+	checkValue(t, "P2: Find", num(8), api.OK)(h.Find(1, num(7)))
+	checkValue(t, "P2: Key", num(7), api.OK)(h.Key(1, 0))
+}

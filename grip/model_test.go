@@ -1,0 +1,412 @@
+package grip_test
+
+import (
+	"fmt"
+	"math/rand"
+	"slices"
+	"testing"
+
+	"grip/api"
+	"grip/grip"
+)
+
+// thing is an object of the model: it has no place until it is laid out, so
+// that its identity is Go's own.
+type thing struct {
+	kind   int
+	text   string
+	values []inner // of an array
+	room   int     // of a table
+	keys   []inner
+	under  []inner // the values of the keys
+}
+
+// inner is a value in a thing.
+type inner struct {
+	kind, n int
+	what    *thing
+}
+
+// model is a heap as the document tells it, of things.
+type model struct {
+	limit    int
+	poisoned bool
+	slots    [api.MaxHandles]*thing
+	given    [api.MaxHandles]int
+	things   []*thing // in the order in which they lie
+}
+
+// call is one call, with such arguments as it takes.
+type call struct {
+	name string
+	x, i int
+	k, v api.Value
+	s    string
+}
+
+// answer is what any call answers.
+type answer struct {
+	n    int
+	text string
+	v    api.Value
+	same bool
+	e    api.Errno
+}
+
+// ask makes the call on a heap.
+func ask(h *grip.Heap, c call) answer {
+	a := answer{}
+	switch c.name {
+	case "Array":
+		a.n, a.e = h.Array(c.i)
+	case "Bytes":
+		a.n, a.e = h.Bytes(c.s)
+	case "Table":
+		a.n, a.e = h.Table(c.i)
+	case "Kind":
+		a.n, a.e = h.Kind(c.x)
+	case "Len":
+		a.n, a.e = h.Len(c.x)
+	case "Text":
+		a.text, a.e = h.Text(c.x)
+	case "Place":
+		a.n, a.e = h.Place(c.x)
+	case "Get":
+		a.v, a.e = h.Get(c.x, c.i)
+	case "Set":
+		a.e = h.Set(c.x, c.i, c.v)
+	case "Find":
+		a.v, a.e = h.Find(c.x, c.k)
+	case "Put":
+		a.e = h.Put(c.x, c.k, c.v)
+	case "Cut":
+		a.e = h.Cut(c.x, c.k)
+	case "Key":
+		a.v, a.e = h.Key(c.x, c.i)
+	case "Same":
+		a.same, a.e = h.Same(c.x, c.i)
+	}
+	return a
+}
+
+func (m *model) live(x int) *thing {
+	for i, o := range m.slots {
+		if o != nil && x == api.MaxHandles*(m.given[i]-1)+i {
+			return o
+		}
+	}
+	return nil
+}
+
+// kindsOfCalls are those of the objects that some calls are for.
+var kindsOfCalls = map[string]int{"Text": api.Bytes, "Get": api.Array, "Set": api.Array, "Find": api.Table, "Put": api.Table, "Cut": api.Table, "Key": api.Table}
+
+// refusal tells the errors that go ahead of those that a call names.
+func (m *model) refusal(c call) api.Errno {
+	handles := []int{}
+	values := []api.Value{}
+	switch c.name {
+	case "Kind", "Len", "Text", "Place", "Get", "Key":
+		handles = append(handles, c.x)
+	case "Same":
+		handles = append(handles, c.x, c.i)
+	case "Set":
+		handles = append(handles, c.x)
+		values = append(values, c.v)
+	case "Find", "Cut":
+		handles = append(handles, c.x)
+		values = append(values, c.k)
+	case "Put":
+		handles = append(handles, c.x)
+		values = append(values, c.k, c.v)
+	}
+	if m.poisoned {
+		return api.ErrPoisoned
+	}
+	withKey := c.name == "Find" || c.name == "Cut" || c.name == "Put"
+	for i, v := range values {
+		if v.Kind < 0 || v.Kind > 2 || withKey && i == 0 && v.Kind == api.Nil {
+			return api.ErrValue
+		}
+		if v.Kind == api.Obj {
+			handles = append(handles, v.N)
+		}
+	}
+	for _, x := range handles {
+		if m.live(x) == nil {
+			return api.ErrStale
+		}
+	}
+	if kind := kindsOfCalls[c.name]; kind != 0 && m.live(c.x).kind != kind {
+		return api.ErrKind
+	}
+	return api.OK
+}
+
+func (m *model) inward(v api.Value) inner {
+	switch v.Kind {
+	case api.Int:
+		return inner{kind: api.Int, n: v.N}
+	case api.Obj:
+		return inner{kind: api.Obj, what: m.live(v.N)}
+	}
+	return inner{}
+}
+
+func (m *model) handle(o *thing) (int, api.Errno) {
+	i := slices.Index(m.slots[:], nil)
+	if i < 0 {
+		return 0, api.ErrHandles
+	}
+	m.slots[i] = o
+	m.given[i]++
+	return api.MaxHandles*(m.given[i]-1) + i, api.OK
+}
+
+func (m *model) outward(v inner) answer {
+	if v.kind != api.Obj {
+		return answer{v: api.Value{Kind: v.kind, N: v.n}}
+	}
+	x, e := m.handle(v.what)
+	if e != api.OK {
+		return answer{e: e}
+	}
+	return answer{v: obj(x)}
+}
+
+func (m *model) add(o *thing) answer {
+	if slices.Index(m.slots[:], nil) < 0 {
+		return answer{e: api.ErrHandles}
+	}
+	m.things = append(m.things, o)
+	if len(m.words()) > m.limit {
+		m.poisoned = true
+		return answer{e: api.ErrMemory}
+	}
+	x, e := m.handle(o)
+	return answer{n: x, e: e}
+}
+
+// run makes the call on the model.
+func (m *model) run(c call) answer {
+	e := m.refusal(c)
+	if e != api.OK {
+		return answer{e: e}
+	}
+	o := m.live(c.x)
+	switch c.name {
+	case "Array":
+		if c.i < 0 || c.i > 16 {
+			return answer{e: api.ErrSize}
+		}
+		return m.add(&thing{kind: api.Array, values: make([]inner, c.i)})
+	case "Bytes":
+		if len(c.s) > 64 {
+			return answer{e: api.ErrSize}
+		}
+		return m.add(&thing{kind: api.Bytes, text: c.s})
+	case "Table":
+		if c.i < 0 || c.i > 8 {
+			return answer{e: api.ErrSize}
+		}
+		return m.add(&thing{kind: api.Table, room: c.i})
+	case "Kind":
+		return answer{n: o.kind}
+	case "Len":
+		return answer{n: len(o.text) + len(o.values) + len(o.keys)}
+	case "Text":
+		return answer{text: o.text}
+	case "Place":
+		return answer{n: m.places()[o]}
+	case "Same":
+		return answer{same: o == m.live(c.i)}
+	case "Get", "Set":
+		return m.runArray(o, c)
+	}
+	return m.runTable(o, c)
+}
+
+func (m *model) runArray(o *thing, c call) answer {
+	if c.i < 0 || c.i >= len(o.values) {
+		return answer{e: api.ErrIndex}
+	}
+	if c.name == "Get" {
+		return m.outward(o.values[c.i])
+	}
+	o.values[c.i] = m.inward(c.v)
+	return answer{}
+}
+
+func (m *model) runTable(o *thing, c call) answer {
+	if c.name == "Key" {
+		if c.i < 0 || c.i >= len(o.keys) {
+			return answer{e: api.ErrIndex}
+		}
+		return m.outward(o.keys[c.i])
+	}
+	k := m.inward(c.k)
+	at := slices.Index(o.keys, k)
+	switch {
+	case c.name == "Put" && at >= 0:
+		o.under[at] = m.inward(c.v)
+	case c.name == "Put" && len(o.keys) == o.room:
+		return answer{e: api.ErrFull}
+	case c.name == "Put":
+		o.keys = append(o.keys, k)
+		o.under = append(o.under, m.inward(c.v))
+	case at < 0:
+		return answer{e: api.ErrNone}
+	case c.name == "Find":
+		return m.outward(o.under[at])
+	default:
+		o.keys = slices.Delete(o.keys, at, at+1)
+		o.under = slices.Delete(o.under, at, at+1)
+	}
+	return answer{}
+}
+
+// places tells where the things lie.
+func (m *model) places() map[*thing]int {
+	places := map[*thing]int{}
+	place := 0
+	for _, o := range m.things {
+		places[o] = place
+		switch o.kind {
+		case api.Array:
+			place += 1 + 2*len(o.values)
+		case api.Bytes:
+			place += 1 + (len(o.text)+7)/8
+		default:
+			place += 2 + 4*o.room
+		}
+	}
+	return places
+}
+
+func (m *model) words() []int {
+	places := m.places()
+	words := []int{}
+	for _, o := range m.things {
+		switch o.kind {
+		case api.Array:
+			words = append(words, 65536+len(o.values))
+			for _, v := range o.values {
+				words = append(words, v.kind, v.n+places[v.what])
+			}
+		case api.Bytes:
+			words = append(words, packed(o.text)...)
+		default:
+			rows := [][4]int{}
+			for i, k := range o.keys {
+				v := o.under[i]
+				rows = append(rows, [4]int{k.kind, k.n + places[k.what], v.kind, v.n + places[v.what]})
+			}
+			words = append(words, tableWords(o.room, rows...)...)
+		}
+	}
+	return words
+}
+
+// someNumber is mostly small, and at times great.
+func someNumber(r *rand.Rand, most int) int {
+	if r.Intn(40) == 0 {
+		return greatNumbers[r.Intn(len(greatNumbers))]
+	}
+	return r.Intn(most+2) - 1
+}
+
+// someHandle is mostly a live handle of an object of the kind (of any, if it
+// is 0).
+func (m *model) someHandle(r *rand.Rand, kind int) int {
+	fitting := []int{}
+	for i, o := range m.slots {
+		if o != nil && (kind == 0 || o.kind == kind) {
+			fitting = append(fitting, api.MaxHandles*(m.given[i]-1)+i)
+		}
+	}
+	if len(fitting) == 0 || r.Intn(12) == 0 {
+		return someNumber(r, 2*api.MaxHandles)
+	}
+	return fitting[r.Intn(len(fitting))]
+}
+
+func (m *model) someValue(r *rand.Rand) api.Value {
+	switch n := r.Intn(40); {
+	case n == 0:
+		return noValues[r.Intn(len(noValues))]
+	case n < 4:
+		return api.Value{Kind: api.Nil, N: r.Intn(3)}
+	case n < 20:
+		return num(someNumber(r, 3))
+	}
+	return obj(m.someHandle(r, 0))
+}
+
+// someCall is mostly one that goes well, so that there is something to change.
+func (m *model) someCall(r *rand.Rand) call {
+	names := []string{"Array", "Bytes", "Table", "Kind", "Len", "Text", "Place", "Get", "Set", "Set", "Find", "Put", "Put", "Put", "Cut", "Key", "Same"}
+	c := call{name: names[r.Intn(len(names))], i: someNumber(r, 4)}
+	kind := kindsOfCalls[c.name]
+	if r.Intn(8) == 0 {
+		kind = 0
+	}
+	c.x = m.someHandle(r, kind)
+	if c.name == "Same" {
+		c.i = m.someHandle(r, 0)
+	}
+	c.k = m.someValue(r)
+	c.v = m.someValue(r)
+	text := make([]byte, r.Intn(20))
+	r.Read(text)
+	c.s = string(text)
+	return c
+}
+
+// P1, P4 to P9: heaps and the model answer the same to many calls, and have
+// the same words behind each.
+func TestModel(t *testing.T) {
+	errors := map[api.Errno]int{}
+	done := map[string]int{}
+	for seed := int64(0); seed < 300; seed++ {
+		r := rand.New(rand.NewSource(seed))
+		limit := api.MaxWords
+		if seed%3 == 0 {
+			limit = 1 + r.Intn(200)
+		}
+		h := newHeap(t, limit)
+		m := &model{limit: limit}
+		history := ""
+		for step := 0; step < 250; step++ {
+			c := m.someCall(r)
+			history += fmt.Sprintf("%#v\n", c)
+			want := m.run(c)
+			got := ask(h, c)
+			errors[got.e]++
+			if got.e == api.OK {
+				done[c.name]++
+			}
+			if got != want {
+				t.Fatalf("seed %d, limit %d: %+v, want %+v, to the last of\n%s", seed, limit, got, want, history)
+			}
+			if m.poisoned {
+				continue
+			}
+			words, e := h.Words()
+			if !slices.Equal(words, m.words()) || e != api.OK {
+				t.Fatalf("seed %d, limit %d: Words = %v, error %d, want %v, behind\n%s", seed, limit, words, e, m.words(), history)
+			}
+		}
+	}
+	// An error that hardly comes, or a call that hardly goes well, would be
+	// tested little.
+	for _, e := range []api.Errno{api.OK, api.ErrPoisoned, api.ErrValue, api.ErrStale, api.ErrKind, api.ErrIndex, api.ErrNone, api.ErrFull, api.ErrHandles, api.ErrMemory} {
+		if errors[e] < 50 {
+			t.Errorf("error %d came %d times alone", e, errors[e])
+		}
+	}
+	for _, name := range []string{"Get", "Set", "Find", "Put", "Cut", "Key", "Same"} {
+		if done[name] < 50 {
+			t.Errorf("%s went well %d times alone", name, done[name])
+		}
+	}
+}
