@@ -35,12 +35,26 @@ func TestP1RefusedChangesNothing(t *testing.T) {
 	checkNumber(t, "P1: its place", 20, api.OK)(h.Place(3))
 }
 
+// checkStale makes every call that takes a handle with x, as an argument and
+// in a Value: ErrStale goes ahead of what else is wrong with them.
 func checkStale(t *testing.T, h *grip.Heap, x int) {
 	t.Helper()
 	checkNumber(t, "P1: Kind of no handle", 0, api.ErrStale)(h.Kind(x))
 	checkNumber(t, "P1: Len of no handle", 0, api.ErrStale)(h.Len(x))
 	checkNumber(t, "P1: Place of no handle", 0, api.ErrStale)(h.Place(x))
 	checkText(t, "P1: Text of no handle", "", api.ErrStale)(h.Text(x))
+	checkValue(t, "P1: Get of no handle", none, api.ErrStale)(h.Get(x, 0))
+	checkValue(t, "P1: Key of no handle", none, api.ErrStale)(h.Key(x, 0))
+	checkError(t, "P1: Set of no handle", api.ErrStale, h.Set(x, 0, num(1)))
+	checkError(t, "P1: Set to no handle", api.ErrStale, h.Set(0, 0, obj(x)))
+	checkTableCalls(t, h, x, num(1), num(2), api.ErrStale)
+	checkTableCalls(t, h, 0, obj(x), num(2), api.ErrStale)
+	checkError(t, "P1: Put of no handle", api.ErrStale, h.Put(0, num(1), obj(x)))
+	checkSame(t, "P1: Same of no handle", false, api.ErrStale)(h.Same(x, 0))
+	checkSame(t, "P1: Same with no handle", false, api.ErrStale)(h.Same(0, x))
+	checkNumber(t, "P1: Escape of no handle", 0, api.ErrStale)(h.Escape(x))
+	checkNumber(t, "P1: Keep of no handle", 0, api.ErrStale)(h.Keep(x))
+	checkError(t, "P1: Release of no handle", api.ErrStale, h.Release(x))
 }
 
 // P1: a number is a handle's only once the handle is made.
@@ -89,6 +103,8 @@ func TestP1SizeAheadOfMemory(t *testing.T) {
 func TestP1PoisonedAheadOfAll(t *testing.T) {
 	h := newHeap(t, 9)
 	checkNumber(t, "Array(4)", 0, api.OK)(h.Array(4))
+	h.Open()
+	h.Keep(0)
 	checkNumber(t, "P13: Array(0) without a word left", 0, api.ErrMemory)(h.Array(0))
 	for _, n := range append([]int{-1, 0, 1, 17, 32}, greatNumbers...) {
 		checkNumber(t, "P1: Array", 0, api.ErrPoisoned)(h.Array(n))
@@ -101,6 +117,11 @@ func TestP1PoisonedAheadOfAll(t *testing.T) {
 		checkValue(t, "P1: Key", none, api.ErrPoisoned)(h.Key(n, n))
 		checkSame(t, "P1: Same", false, api.ErrPoisoned)(h.Same(n, 0))
 		checkSame(t, "P1: Same", false, api.ErrPoisoned)(h.Same(0, n))
+		checkNumber(t, "P1: Open", 0, api.ErrPoisoned)(h.Open())
+		checkError(t, "P1: Close", api.ErrPoisoned, h.Close(n))
+		checkNumber(t, "P1: Escape", 0, api.ErrPoisoned)(h.Escape(n))
+		checkNumber(t, "P1: Keep", 0, api.ErrPoisoned)(h.Keep(n))
+		checkError(t, "P1: Release", api.ErrPoisoned, h.Release(n))
 		for _, v := range append([]api.Value{none, num(n), obj(n), obj(0)}, noValues...) {
 			checkError(t, "P1: Set", api.ErrPoisoned, h.Set(n, n, v))
 			checkTableCalls(t, h, n, v, num(1), api.ErrPoisoned)

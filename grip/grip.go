@@ -35,19 +35,15 @@ func (h *Heap) add(kind int, size int, most int) (int, api.Errno) {
 	if h.slots.Full() {
 		return 0, api.ErrHandles
 	}
-	// No call ends a handle yet: every object is reachable, by the handle that
-	// it was made with, which has its lowest slot; so the objects lie in the
-	// order of the slots, and collecting (P13) would change nothing here.
+	// Nothing is collected yet (P12, P13): words that are taken stay in use,
+	// also those of objects that are not reachable any more.
 	place, fits := h.memory.Add(kind, size)
 	if !fits {
 		h.poisoned = true
 		return 0, api.ErrMemory
 	}
-	x, made := h.slots.Add(place)
-	if !made {
-		return 0, api.ErrHandles
-	}
-	return x, api.OK
+	innermost := h.slots.Innermost()
+	return h.newHandle(place, innermost)
 }
 
 // find tells the place of the object of x, or the first errors of all calls
@@ -152,21 +148,6 @@ func (h *Heap) Same(x int, y int) (bool, api.Errno) {
 	}
 	return place == other, api.OK
 }
-
-// Open opens a scope (P10).
-func (h *Heap) Open() (int, api.Errno) { return 0, api.OK }
-
-// Close closes a scope (P10).
-func (h *Heap) Close(n int) api.Errno { return api.OK }
-
-// Escape makes a handle in the scope around (P11).
-func (h *Heap) Escape(x int) (int, api.Errno) { return 0, api.OK }
-
-// Keep makes a handle that belongs to no scope (P11).
-func (h *Heap) Keep(x int) (int, api.Errno) { return 0, api.OK }
-
-// Release lets such a handle go (P11).
-func (h *Heap) Release(x int) api.Errno { return api.OK }
 
 // Collect moves what can be reached together (P12).
 func (h *Heap) Collect() api.Errno { return api.OK }

@@ -83,6 +83,23 @@ func checkWords(t *testing.T, h *grip.Heap, want ...int) {
 	}
 }
 
+func checkLive(t *testing.T, h *grip.Heap, list ...int) {
+	t.Helper()
+	for _, x := range list {
+		if _, e := h.Kind(x); e != api.OK {
+			t.Errorf("handle %d: error %d", x, e)
+		}
+	}
+}
+
+// checkEnded is checkStale of several numbers.
+func checkEnded(t *testing.T, h *grip.Heap, list ...int) {
+	t.Helper()
+	for _, x := range list {
+		checkStale(t, h, x)
+	}
+}
+
 // facts is what can be seen of a handle.
 type facts struct {
 	kind, length, place     int
@@ -91,12 +108,12 @@ type facts struct {
 }
 
 // look tells all that can be seen of a heap: its words, and of each number
-// that could be a handle's in its slots' first two rounds, and below 0, what
+// that could be a handle's in its slots' first four rounds, and below 0, what
 // the calls answer.
 func look(h *grip.Heap) ([]int, []facts) {
 	words, _ := h.Words()
 	list := []facts{}
-	for x := -3; x < 2*api.MaxHandles; x++ {
+	for x := -3; x < 4*api.MaxHandles; x++ {
 		f := facts{}
 		f.kind, f.kindE = h.Kind(x)
 		f.length, f.lenE = h.Len(x)
@@ -107,14 +124,27 @@ func look(h *grip.Heap) ([]int, []facts) {
 	return words, list
 }
 
+// innermost tells the number of the innermost open scope, by opening one within
+// it and closing that again.
+func innermost(h *grip.Heap) int {
+	n, e := h.Open()
+	if e != api.OK {
+		return api.MaxScopes
+	}
+	h.Close(n)
+	return n - 1
+}
+
 // checkUnchanged runs a call that is to be refused, and compares what can be
 // seen of the heap ahead of it and behind it.
 func checkUnchanged(t *testing.T, h *grip.Heap, what string, call func()) {
 	t.Helper()
 	words, list := look(h)
+	scope := innermost(h)
 	call()
 	wordsThen, listThen := look(h)
-	if !slices.Equal(words, wordsThen) || !slices.Equal(list, listThen) {
+	scopeThen := innermost(h)
+	if !slices.Equal(words, wordsThen) || !slices.Equal(list, listThen) || scope != scopeThen {
 		t.Errorf("%s was refused, and changed the heap", what)
 	}
 }

@@ -33,8 +33,13 @@ type model struct {
 	poisoned bool
 	slots    [api.MaxHandles]*thing
 	given    [api.MaxHandles]int
+	scopes   [api.MaxHandles]int // of the live handles; keptScope for the kept
+	open     int
 	things   []*thing // in the order in which they lie
 }
+
+// keptScope stands for no scope at all.
+const keptScope = 1000
 
 // call is one call, with such arguments as it takes.
 type call struct {
@@ -85,6 +90,16 @@ func ask(h *grip.Heap, c call) answer {
 		a.v, a.e = h.Key(c.x, c.i)
 	case "Same":
 		a.same, a.e = h.Same(c.x, c.i)
+	case "Open":
+		a.n, a.e = h.Open()
+	case "Close":
+		a.e = h.Close(c.i)
+	case "Escape":
+		a.n, a.e = h.Escape(c.x)
+	case "Keep":
+		a.n, a.e = h.Keep(c.x)
+	case "Release":
+		a.e = h.Release(c.x)
 	}
 	return a
 }
@@ -106,7 +121,7 @@ func (m *model) refusal(c call) api.Errno {
 	handles := []int{}
 	values := []api.Value{}
 	switch c.name {
-	case "Kind", "Len", "Text", "Place", "Get", "Key":
+	case "Kind", "Len", "Text", "Place", "Get", "Key", "Escape", "Keep", "Release":
 		handles = append(handles, c.x)
 	case "Same":
 		handles = append(handles, c.x, c.i)
@@ -153,12 +168,13 @@ func (m *model) inward(v api.Value) inner {
 	return inner{}
 }
 
-func (m *model) handle(o *thing) (int, api.Errno) {
+func (m *model) handle(o *thing, scope int) (int, api.Errno) {
 	i := slices.Index(m.slots[:], nil)
 	if i < 0 {
 		return 0, api.ErrHandles
 	}
 	m.slots[i] = o
+	m.scopes[i] = scope
 	m.given[i]++
 	return api.MaxHandles*(m.given[i]-1) + i, api.OK
 }
@@ -167,7 +183,7 @@ func (m *model) outward(v inner) answer {
 	if v.kind != api.Obj {
 		return answer{v: api.Value{Kind: v.kind, N: v.n}}
 	}
-	x, e := m.handle(v.what)
+	x, e := m.handle(v.what, m.open)
 	if e != api.OK {
 		return answer{e: e}
 	}
@@ -183,7 +199,7 @@ func (m *model) add(o *thing) answer {
 		m.poisoned = true
 		return answer{e: api.ErrMemory}
 	}
-	x, e := m.handle(o)
+	x, e := m.handle(o, m.open)
 	return answer{n: x, e: e}
 }
 
@@ -222,8 +238,47 @@ func (m *model) run(c call) answer {
 		return answer{same: o == m.live(c.i)}
 	case "Get", "Set":
 		return m.runArray(o, c)
+	case "Open", "Close":
+		return m.runScopes(c)
+	case "Escape", "Keep", "Release":
+		return m.runHandles(o, c)
 	}
 	return m.runTable(o, c)
+}
+
+func (m *model) runScopes(c call) answer {
+	if c.name == "Open" {
+		if m.open == 16 {
+			return answer{e: api.ErrScope}
+		}
+		m.open++
+		return answer{n: m.open}
+	}
+	if c.i != m.open || m.open == 0 {
+		return answer{e: api.ErrScope}
+	}
+	for i, scope := range m.scopes {
+		if scope == m.open {
+			m.slots[i] = nil
+		}
+	}
+	m.open--
+	return answer{}
+}
+
+func (m *model) runHandles(o *thing, c call) answer {
+	a := answer{}
+	switch {
+	case c.name == "Keep":
+		a.n, a.e = m.handle(o, keptScope)
+	case c.name == "Escape" && m.open > 0:
+		a.n, a.e = m.handle(o, m.open-1)
+	case c.name == "Release" && m.scopes[c.x%32] == keptScope:
+		m.slots[c.x%32] = nil
+	default:
+		a.e = api.ErrScope
+	}
+	return a
 }
 
 func (m *model) runArray(o *thing, c call) answer {
@@ -325,9 +380,29 @@ func (m *model) someHandle(r *rand.Rand, kind int) int {
 		}
 	}
 	if len(fitting) == 0 || r.Intn(12) == 0 {
-		return someNumber(r, 2*api.MaxHandles)
+		return m.someStale(r)
 	}
 	return fitting[r.Intn(len(fitting))]
+}
+
+// someStale is mostly a number that no live handle has: one that a slot's
+// earlier handles had, or the next ones will have.
+func (m *model) someStale(r *rand.Rand) int {
+	if r.Intn(3) == 0 {
+		return someNumber(r, 2*api.MaxHandles)
+	}
+	i := r.Intn(api.MaxHandles)
+	return api.MaxHandles*r.Intn(m.given[i]+1) + i
+}
+
+// someKept is mostly a kept handle.
+func (m *model) someKept(r *rand.Rand) int {
+	for i, o := range m.slots {
+		if o != nil && m.scopes[i] == keptScope && r.Intn(3) > 0 {
+			return api.MaxHandles*(m.given[i]-1) + i
+		}
+	}
+	return m.someHandle(r, 0)
 }
 
 func (m *model) someValue(r *rand.Rand) api.Value {
@@ -342,9 +417,26 @@ func (m *model) someValue(r *rand.Rand) api.Value {
 	return obj(m.someHandle(r, 0))
 }
 
+// someKey is often one that the table of x has.
+func (m *model) someKey(r *rand.Rand, x int) api.Value {
+	o := m.live(x)
+	if o == nil || len(o.keys) == 0 || r.Intn(2) == 0 {
+		return m.someValue(r)
+	}
+	k := o.keys[r.Intn(len(o.keys))]
+	i := slices.Index(m.slots[:], k.what)
+	switch {
+	case k.kind == api.Int:
+		return num(k.n)
+	case i >= 0:
+		return obj(api.MaxHandles*(m.given[i]-1) + i)
+	}
+	return m.someValue(r)
+}
+
 // someCall is mostly one that goes well, so that there is something to change.
 func (m *model) someCall(r *rand.Rand) call {
-	names := []string{"Array", "Bytes", "Table", "Kind", "Len", "Text", "Place", "Get", "Set", "Set", "Find", "Put", "Put", "Put", "Cut", "Key", "Same"}
+	names := []string{"Array", "Bytes", "Table", "Kind", "Len", "Text", "Place", "Get", "Set", "Set", "Find", "Put", "Put", "Put", "Cut", "Key", "Same", "Open", "Close", "Escape", "Keep", "Release"}
 	c := call{name: names[r.Intn(len(names))], i: someNumber(r, 4)}
 	kind := kindsOfCalls[c.name]
 	if r.Intn(8) == 0 {
@@ -354,7 +446,13 @@ func (m *model) someCall(r *rand.Rand) call {
 	if c.name == "Same" {
 		c.i = m.someHandle(r, 0)
 	}
-	c.k = m.someValue(r)
+	if c.name == "Close" && r.Intn(4) > 0 {
+		c.i = m.open
+	}
+	if c.name == "Release" {
+		c.x = m.someKept(r)
+	}
+	c.k = m.someKey(r, c.x)
 	c.v = m.someValue(r)
 	text := make([]byte, r.Intn(20))
 	r.Read(text)
@@ -362,29 +460,28 @@ func (m *model) someCall(r *rand.Rand) call {
 	return c
 }
 
-// P1, P4 to P9: heaps and the model answer the same to many calls, and have
+// P1, P4 to P11: heaps and the model answer the same to many calls, and have
 // the same words behind each.
 func TestModel(t *testing.T) {
-	errors := map[api.Errno]int{}
-	done := map[string]int{}
-	for seed := int64(0); seed < 300; seed++ {
+	came := map[string]map[api.Errno]int{}
+	for seed := int64(0); seed < 400; seed++ {
 		r := rand.New(rand.NewSource(seed))
 		limit := api.MaxWords
-		if seed%3 == 0 {
+		if seed%4 == 0 {
 			limit = 1 + r.Intn(200)
 		}
 		h := newHeap(t, limit)
 		m := &model{limit: limit}
 		history := ""
-		for step := 0; step < 250; step++ {
+		for step := 0; step < 300; step++ {
 			c := m.someCall(r)
 			history += fmt.Sprintf("%#v\n", c)
 			want := m.run(c)
 			got := ask(h, c)
-			errors[got.e]++
-			if got.e == api.OK {
-				done[c.name]++
+			if came[c.name] == nil {
+				came[c.name] = map[api.Errno]int{}
 			}
+			came[c.name][got.e]++
 			if got != want {
 				t.Fatalf("seed %d, limit %d: %+v, want %+v, to the last of\n%s", seed, limit, got, want, history)
 			}
@@ -397,16 +494,41 @@ func TestModel(t *testing.T) {
 			}
 		}
 	}
-	// An error that hardly comes, or a call that hardly goes well, would be
-	// tested little.
-	for _, e := range []api.Errno{api.OK, api.ErrPoisoned, api.ErrValue, api.ErrStale, api.ErrKind, api.ErrIndex, api.ErrNone, api.ErrFull, api.ErrHandles, api.ErrMemory} {
-		if errors[e] < 50 {
-			t.Errorf("error %d came %d times alone", e, errors[e])
-		}
-	}
-	for _, name := range []string{"Get", "Set", "Find", "Put", "Cut", "Key", "Same"} {
-		if done[name] < 50 {
-			t.Errorf("%s went well %d times alone", name, done[name])
+	checkCame(t, came)
+}
+
+// errorsOfCalls are the errors that a call can answer, but ErrPoisoned, which
+// each can.
+var errorsOfCalls = map[string][]api.Errno{
+	"Array":   {api.OK, api.ErrSize, api.ErrHandles, api.ErrMemory},
+	"Bytes":   {api.OK, api.ErrHandles, api.ErrMemory},
+	"Table":   {api.OK, api.ErrSize, api.ErrHandles, api.ErrMemory},
+	"Kind":    {api.OK, api.ErrStale},
+	"Len":     {api.OK, api.ErrStale},
+	"Text":    {api.OK, api.ErrStale, api.ErrKind},
+	"Place":   {api.OK, api.ErrStale},
+	"Get":     {api.OK, api.ErrStale, api.ErrKind, api.ErrIndex, api.ErrHandles},
+	"Set":     {api.OK, api.ErrValue, api.ErrStale, api.ErrKind, api.ErrIndex},
+	"Find":    {api.OK, api.ErrValue, api.ErrStale, api.ErrKind, api.ErrNone, api.ErrHandles},
+	"Put":     {api.OK, api.ErrValue, api.ErrStale, api.ErrKind, api.ErrFull},
+	"Cut":     {api.OK, api.ErrValue, api.ErrStale, api.ErrKind, api.ErrNone},
+	"Key":     {api.OK, api.ErrStale, api.ErrKind, api.ErrIndex, api.ErrHandles},
+	"Same":    {api.OK, api.ErrStale},
+	"Open":    {api.OK, api.ErrScope},
+	"Close":   {api.OK, api.ErrScope},
+	"Escape":  {api.OK, api.ErrStale, api.ErrScope, api.ErrHandles},
+	"Keep":    {api.OK, api.ErrStale, api.ErrHandles},
+	"Release": {api.OK, api.ErrStale, api.ErrScope},
+}
+
+// checkCame looks whether each answer came often enough: one that hardly comes
+// would be tested little.
+func checkCame(t *testing.T, came map[string]map[api.Errno]int) {
+	for name, list := range errorsOfCalls {
+		for _, e := range append([]api.Errno{api.ErrPoisoned}, list...) {
+			if came[name][e] < 10 {
+				t.Errorf("%s answered error %d only %d times", name, e, came[name][e])
+			}
 		}
 	}
 }

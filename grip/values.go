@@ -37,9 +37,10 @@ func (h *Heap) outward(v memory.Value) (api.Value, api.Errno) {
 	if v.Kind != api.Obj {
 		return api.Value{Kind: v.Kind, N: v.N}, api.OK
 	}
-	x, made := h.slots.Add(v.N)
-	if !made {
-		return api.Value{}, api.ErrHandles
+	innermost := h.slots.Innermost()
+	x, e := h.newHandle(v.N, innermost)
+	if e != api.OK {
+		return api.Value{}, e
 	}
 	return api.Value{Kind: api.Obj, N: x}, api.OK
 }

@@ -12,14 +12,14 @@ func TestAdd(t *testing.T) {
 		if s.Full() {
 			t.Fatalf("full with %d handles", i)
 		}
-		if x, made := s.Add(100 + i); x != i || !made {
+		if x, made := s.Add(100+i, 0); x != i || !made {
 			t.Errorf("handle %d = %d, %v", i, x, made)
 		}
 	}
 	if !s.Full() {
 		t.Error("not full")
 	}
-	if x, made := s.Add(7); x != 0 || made {
+	if x, made := s.Add(7, 0); x != 0 || made {
 		t.Errorf("one more = %d, %v", x, made)
 	}
 	for i := 0; i < api.MaxHandles; i++ {
@@ -34,20 +34,21 @@ func TestAdd(t *testing.T) {
 func TestGivenAgain(t *testing.T) {
 	s := Slots{}
 	for i := 0; i < 5; i++ {
-		s.Add(i)
+		s.Add(i, Kept)
 	}
 	for round := 1; round < 4; round++ {
-		s.list[3].live = false
-		s.list[1].live = false
-		for _, i := range []int{1, 3} {
+		for _, i := range []int{3, 1} {
 			x := (round-1)*api.MaxHandles + i
+			if !s.Release(x) {
+				t.Errorf("round %d: Release(%d)", round, x)
+			}
 			if place, live := s.Place(x); place != 0 || live {
 				t.Errorf("round %d: Place(%d) = %d, %v with its slot free", round, x, place, live)
 			}
 		}
 		for _, i := range []int{1, 3} {
 			want := round*api.MaxHandles + i
-			if x, made := s.Add(50 + i); x != want || !made {
+			if x, made := s.Add(50+i, Kept); x != want || !made {
 				t.Errorf("round %d: slot %d = %d, %v, want %d", round, i, x, made, want)
 			}
 			if place, live := s.Place(want); place != 50+i || !live {
@@ -70,10 +71,72 @@ func TestNotLive(t *testing.T) {
 			t.Errorf("without handles: Place(%d) = %d, %v", x, place, live)
 		}
 	}
-	s.Add(9)
+	s.Add(9, 0)
 	for _, x := range numbers {
 		if place, live := s.Place(x); place != 0 || live {
 			t.Errorf("Place(%d) = %d, %v", x, place, live)
 		}
 	}
+}
+
+func TestScopesByNumber(t *testing.T) {
+	s := Slots{}
+	for n := 1; n <= api.MaxScopes; n++ {
+		if m := s.Innermost(); m != n-1 {
+			t.Errorf("Innermost = %d, want %d", m, n-1)
+		}
+		if m, opened := s.Open(); m != n || !opened {
+			t.Errorf("Open = %d, %v, want %d", m, opened, n)
+		}
+	}
+	if m, opened := s.Open(); m != 0 || opened {
+		t.Errorf("one more = %d, %v", m, opened)
+	}
+	for n := api.MaxScopes; n > 0; n-- {
+		for _, m := range []int{0, n - 1, n + 1, -n, -1, 1 << 62, -1 << 63} {
+			if s.Close(m) {
+				t.Errorf("Close(%d) with %d innermost", m, n)
+			}
+		}
+		if !s.Close(n) {
+			t.Errorf("Close(%d)", n)
+		}
+	}
+	for _, m := range []int{0, 1, Kept} {
+		if s.Close(m) {
+			t.Errorf("Close(%d) with 0 innermost", m)
+		}
+	}
+}
+
+// Close ends the handles of its scope, and Release those that are kept; the
+// others stay.
+func TestHandlesEnd(t *testing.T) {
+	s := Slots{}
+	s.Open()
+	s.Open()
+	for i, scope := range []int{2, 0, Kept, 1, 2} {
+		s.Add(10+i, scope)
+	}
+	check := func(want ...bool) {
+		t.Helper()
+		for x, w := range want {
+			if _, live := s.Place(x); live != w {
+				t.Errorf("handle %d: live is %v", x, live)
+			}
+		}
+	}
+	s.Close(2)
+	check(false, true, true, true, false)
+	for _, x := range []int{0, 1, 3, 4, 5, 32, 34, -1, -30, 1 << 62, -1 << 63} {
+		if s.Release(x) {
+			t.Errorf("Release(%d)", x)
+		}
+	}
+	s.Close(1)
+	check(false, true, true, false, false)
+	if !s.Release(2) || s.Release(2) {
+		t.Error("Release of a kept handle, and once more")
+	}
+	check(false, true, false, false, false)
 }
