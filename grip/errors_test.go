@@ -1,7 +1,6 @@
 package grip_test
 
 import (
-	"slices"
 	"strings"
 	"testing"
 
@@ -55,6 +54,10 @@ func checkStale(t *testing.T, h *grip.Heap, x int) {
 	checkNumber(t, "P1: Escape of no handle", 0, api.ErrStale)(h.Escape(x))
 	checkNumber(t, "P1: Keep of no handle", 0, api.ErrStale)(h.Keep(x))
 	checkError(t, "P1: Release of no handle", api.ErrStale, h.Release(x))
+	checkNumber(t, "P1: Join of no handle", 0, api.ErrStale)(h.Join(x, 0))
+	checkNumber(t, "P1: Join with no handle", 0, api.ErrStale)(h.Join(0, x))
+	checkNumber(t, "P1: Join of no handle with itself", 0, api.ErrStale)(h.Join(x, x))
+	checkNumber(t, "P1: Copy of no handle", 0, api.ErrStale)(h.Copy(x))
 }
 
 // P1: a number is a handle's only once the handle is made.
@@ -106,6 +109,13 @@ func TestP1PoisonedAheadOfAll(t *testing.T) {
 	h.Open()
 	h.Keep(0)
 	checkNumber(t, "P13: Array(0) without a word left", 0, api.ErrMemory)(h.Array(0))
+	checkPoisoned(t, h)
+}
+
+// checkPoisoned makes each of the 23 calls, with good arguments and with such
+// as would be refused.
+func checkPoisoned(t *testing.T, h *grip.Heap) {
+	t.Helper()
 	for _, n := range append([]int{-1, 0, 1, 17, 32}, greatNumbers...) {
 		checkNumber(t, "P1: Array", 0, api.ErrPoisoned)(h.Array(n))
 		checkNumber(t, "P1: Table", 0, api.ErrPoisoned)(h.Table(n))
@@ -122,6 +132,10 @@ func TestP1PoisonedAheadOfAll(t *testing.T) {
 		checkNumber(t, "P1: Escape", 0, api.ErrPoisoned)(h.Escape(n))
 		checkNumber(t, "P1: Keep", 0, api.ErrPoisoned)(h.Keep(n))
 		checkError(t, "P1: Release", api.ErrPoisoned, h.Release(n))
+		checkError(t, "P1: Collect", api.ErrPoisoned, h.Collect())
+		checkNumber(t, "P1: Join", 0, api.ErrPoisoned)(h.Join(n, 0))
+		checkNumber(t, "P1: Join", 0, api.ErrPoisoned)(h.Join(0, n))
+		checkNumber(t, "P1: Copy", 0, api.ErrPoisoned)(h.Copy(n))
 		for _, v := range append([]api.Value{none, num(n), obj(n), obj(0)}, noValues...) {
 			checkError(t, "P1: Set", api.ErrPoisoned, h.Set(n, n, v))
 			checkTableCalls(t, h, n, v, num(1), api.ErrPoisoned)
@@ -132,54 +146,5 @@ func TestP1PoisonedAheadOfAll(t *testing.T) {
 	checkNumber(t, "P1: Bytes", 0, api.ErrPoisoned)(h.Bytes(strings.Repeat("a", 65)))
 	if l, e := h.Words(); l != nil || e != api.ErrPoisoned {
 		t.Errorf("P1: Words = %v, error %d", l, e)
-	}
-}
-
-// P13: the words may be used up to the last, for each kind of object; one
-// more is ErrMemory.
-func TestP13Limit(t *testing.T) {
-	calls := []struct {
-		what string
-		need int
-		call func(h *grip.Heap) (int, api.Errno)
-	}{
-		{"Array(0)", 1, func(h *grip.Heap) (int, api.Errno) { return h.Array(0) }},
-		{"Array(4)", 9, func(h *grip.Heap) (int, api.Errno) { return h.Array(4) }},
-		{"Array(16)", 33, func(h *grip.Heap) (int, api.Errno) { return h.Array(16) }},
-		{"Bytes of 0", 1, func(h *grip.Heap) (int, api.Errno) { return h.Bytes("") }},
-		{"Bytes of 8", 2, func(h *grip.Heap) (int, api.Errno) { return h.Bytes("12345678") }},
-		{"Bytes of 9", 3, func(h *grip.Heap) (int, api.Errno) { return h.Bytes("123456789") }},
-		{"Table(0)", 2, func(h *grip.Heap) (int, api.Errno) { return h.Table(0) }},
-		{"Table(8)", 34, func(h *grip.Heap) (int, api.Errno) { return h.Table(8) }},
-	}
-	for _, c := range calls {
-		h := newHeap(t, 3+c.need)
-		h.Array(1)
-		checkNumber(t, "P13: "+c.what, 1, api.OK)(c.call(h))
-		checkNumber(t, "P13: its place", 3, api.OK)(h.Place(1))
-		h = newHeap(t, 2+c.need)
-		h.Array(1)
-		checkNumber(t, "P13: "+c.what+" with a word too few", 0, api.ErrMemory)(c.call(h))
-		checkNumber(t, "P13: once more", 0, api.ErrPoisoned)(c.call(h))
-		checkNumber(t, "P13: Kind", 0, api.ErrPoisoned)(h.Kind(0))
-	}
-}
-
-// P13: the flags of these calls, which leave nothing unreachable, change
-// nothing.
-func TestP13FlagsWithoutAnythingGone(t *testing.T) {
-	plain := newHeap(t, 60)
-	flagged := newHeap(t, 60, true, false, true)
-	for _, h := range []*grip.Heap{plain, flagged} {
-		h.Array(2)
-		h.Bytes("hello")
-		h.Table(1)
-		h.Array(0)
-		h.Bytes("0123456789")
-	}
-	words, list := look(plain)
-	wordsThen, listThen := look(flagged)
-	if !slices.Equal(words, wordsThen) || !slices.Equal(list, listThen) {
-		t.Errorf("P13: %v with flags, %v without", wordsThen, words)
 	}
 }

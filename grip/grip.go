@@ -12,6 +12,8 @@ type Heap struct {
 	poisoned bool
 	memory   memory.Memory
 	slots    slots.Slots
+	flags    []bool
+	next     int // the number of the flag for the next object
 }
 
 // New makes a heap (P3).
@@ -19,7 +21,8 @@ func New(limit int, flags []bool) (*Heap, api.Errno) {
 	if limit < 1 || limit > api.MaxWords || len(flags) > api.MaxFlags {
 		return nil, api.ErrLimit
 	}
-	return &Heap{memory: memory.New(limit)}, api.OK
+	kept := append([]bool{}, flags...)
+	return &Heap{memory: memory.New(limit), flags: kept}, api.OK
 }
 
 // add makes an object whose contents are noughts, with a size of at most most,
@@ -35,9 +38,7 @@ func (h *Heap) add(kind int, size int, most int) (int, api.Errno) {
 	if h.slots.Full() {
 		return 0, api.ErrHandles
 	}
-	// Nothing is collected yet (P12, P13): words that are taken stay in use,
-	// also those of objects that are not reachable any more.
-	place, fits := h.memory.Add(kind, size)
+	place, fits := h.take(kind, size)
 	if !fits {
 		h.poisoned = true
 		return 0, api.ErrMemory
@@ -148,12 +149,3 @@ func (h *Heap) Same(x int, y int) (bool, api.Errno) {
 	}
 	return place == other, api.OK
 }
-
-// Collect moves what can be reached together (P12).
-func (h *Heap) Collect() api.Errno { return api.OK }
-
-// Join makes a string of two (P14).
-func (h *Heap) Join(x int, y int) (int, api.Errno) { return 0, api.OK }
-
-// Copy makes an object like another (P14).
-func (h *Heap) Copy(x int) (int, api.Errno) { return 0, api.OK }

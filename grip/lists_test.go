@@ -7,29 +7,37 @@ import (
 	"grip/api"
 )
 
-// P2: what is handed in is not written into and not kept.
+// P2: what is handed in is not written into and not kept: flags that are
+// changed behind New, or ahead of each object, change nothing.
 func TestP2FlagsHandedIn(t *testing.T) {
-	room := []bool{true, false, true, false, false}
-	h := newHeap(t, 50, room[:3]...)
-	other := newHeap(t, 50, true, false, true)
-	if !slices.Equal(room, []bool{true, false, true, false, false}) {
+	given := []bool{false, false, true, false, true, false, false}
+	room := slices.Clone(given)
+	h := newHeap(t, 50, room[:5]...)
+	if !slices.Equal(room, given) {
 		t.Errorf("P2: New wrote into the flags: %v", room)
 	}
-	for i := range room {
-		room[i] = !room[i]
+	for k := 0; k < 20; k++ {
+		for i := range room {
+			room[i] = !given[i] || k%3 == 0
+		}
+		changed := slices.Clone(room)
+		checkNumber(t, "P2: the place of an object", placeOfGone(given[:5], k), api.OK)(makeGone(h))
+		if !slices.Equal(room, changed) {
+			t.Fatalf("P2: a later call wrote into the flags: %v, was %v", room, changed)
+		}
 	}
-	changed := slices.Clone(room)
-	for i := 0; i < 5; i++ {
-		h.Array(i)
-		other.Array(i)
-	}
-	words, list := look(h)
-	wordsThen, listThen := look(other)
-	if !slices.Equal(words, wordsThen) || !slices.Equal(list, listThen) {
-		t.Error("P2: the flags that were handed in are kept")
-	}
-	if !slices.Equal(room, changed) {
-		t.Errorf("P2: a later call wrote into the flags: %v", room)
+}
+
+// P2: two heaps can be given one list.
+func TestP2FlagsOfTwoHeaps(t *testing.T) {
+	flags := []bool{false, true, false}
+	one := newHeap(t, 50, flags...)
+	other := newHeap(t, 50, flags...)
+	for k := 0; k < 20; k++ {
+		checkNumber(t, "P2: the place of an object", placeOfGone(flags, k), api.OK)(makeGone(one))
+		if k%2 == 0 {
+			checkNumber(t, "P2: on the other heap", placeOfGone(flags, k/2), api.OK)(makeGone(other))
+		}
 	}
 }
 
@@ -77,11 +85,18 @@ func TestP2LaterCallsLeaveWordsAlone(t *testing.T) {
 		whole := l[:cap(l)]
 		lists = append(lists, whole)
 		copies = append(copies, slices.Clone(whole))
-		switch x % 3 {
+		switch x % 5 {
 		case 0:
 			h.Array(x % 5)
 		case 1:
 			h.Bytes("spare room")
+		case 2:
+			h.Copy(0)
+		case 3:
+			h.Open()
+			h.Join(1, 1)
+			h.Close(1)
+			h.Collect()
 		default:
 			h.Table(x % 4)
 		}

@@ -36,6 +36,8 @@ type model struct {
 	scopes   [api.MaxHandles]int // of the live handles; keptScope for the kept
 	open     int
 	things   []*thing // in the order in which they lie
+	flags    []bool
+	made     int // how many objects were to take words
 }
 
 // keptScope stands for no scope at all.
@@ -100,6 +102,12 @@ func ask(h *grip.Heap, c call) answer {
 		a.n, a.e = h.Keep(c.x)
 	case "Release":
 		a.e = h.Release(c.x)
+	case "Collect":
+		a.e = h.Collect()
+	case "Join":
+		a.n, a.e = h.Join(c.x, c.i)
+	case "Copy":
+		a.n, a.e = h.Copy(c.x)
 	}
 	return a
 }
@@ -114,16 +122,16 @@ func (m *model) live(x int) *thing {
 }
 
 // kindsOfCalls are those of the objects that some calls are for.
-var kindsOfCalls = map[string]int{"Text": api.Bytes, "Get": api.Array, "Set": api.Array, "Find": api.Table, "Put": api.Table, "Cut": api.Table, "Key": api.Table}
+var kindsOfCalls = map[string]int{"Text": api.Bytes, "Join": api.Bytes, "Get": api.Array, "Set": api.Array, "Find": api.Table, "Put": api.Table, "Cut": api.Table, "Key": api.Table}
 
 // refusal tells the errors that go ahead of those that a call names.
 func (m *model) refusal(c call) api.Errno {
 	handles := []int{}
 	values := []api.Value{}
 	switch c.name {
-	case "Kind", "Len", "Text", "Place", "Get", "Key", "Escape", "Keep", "Release":
+	case "Kind", "Len", "Text", "Place", "Get", "Key", "Escape", "Keep", "Release", "Copy":
 		handles = append(handles, c.x)
-	case "Same":
+	case "Same", "Join":
 		handles = append(handles, c.x, c.i)
 	case "Set":
 		handles = append(handles, c.x)
@@ -153,6 +161,9 @@ func (m *model) refusal(c call) api.Errno {
 		}
 	}
 	if kind := kindsOfCalls[c.name]; kind != 0 && m.live(c.x).kind != kind {
+		return api.ErrKind
+	}
+	if c.name == "Join" && m.live(c.i).kind != api.Bytes {
 		return api.ErrKind
 	}
 	return api.OK
@@ -194,13 +205,96 @@ func (m *model) add(o *thing) answer {
 	if slices.Index(m.slots[:], nil) < 0 {
 		return answer{e: api.ErrHandles}
 	}
-	m.things = append(m.things, o)
-	if len(m.words()) > m.limit {
+	if len(m.flags) > 0 && m.flags[m.made%len(m.flags)] {
+		m.collect()
+	}
+	m.made++
+	if m.inUse()+o.need() > m.limit {
+		m.collect()
+	}
+	if m.inUse()+o.need() > m.limit {
 		m.poisoned = true
 		return answer{e: api.ErrMemory}
 	}
+	m.things = append(m.things, o)
 	x, e := m.handle(o, m.open)
 	return answer{n: x, e: e}
+}
+
+func (m *model) addText(s string) answer {
+	if len(s) > 64 {
+		return answer{e: api.ErrSize}
+	}
+	return m.add(&thing{kind: api.Bytes, text: s})
+}
+
+// need tells how many words a thing takes.
+func (o *thing) need() int {
+	switch o.kind {
+	case api.Array:
+		return 1 + 2*len(o.values)
+	case api.Bytes:
+		return 1 + (len(o.text)+7)/8
+	}
+	return 2 + 4*o.room
+}
+
+// inner tells the values in a thing, in the order of its words.
+func (o *thing) inner() []inner {
+	list := slices.Clone(o.values)
+	for i, k := range o.keys {
+		list = append(list, k, o.under[i])
+	}
+	return list
+}
+
+func (m *model) inUse() int {
+	sum := 0
+	for _, o := range m.things {
+		sum += o.need()
+	}
+	return sum
+}
+
+// collect lays out anew what can be reached.
+func (m *model) collect() {
+	things := []*thing{}
+	add := func(o *thing) {
+		if o != nil && !slices.Contains(things, o) {
+			things = append(things, o)
+		}
+	}
+	for _, o := range m.slots {
+		add(o)
+	}
+	for i := 0; i < len(things); i++ {
+		for _, v := range things[i].inner() {
+			add(v.what)
+		}
+	}
+	m.things = things
+}
+
+// reachable tells how many words the things take that can be reached, by going
+// from each into its depth.
+func (m *model) reachable() int {
+	seen := map[*thing]bool{}
+	sum := 0
+	var enter func(o *thing)
+	enter = func(o *thing) {
+		if o == nil || seen[o] {
+			return
+		}
+		seen[o] = true
+		sum += o.need()
+		for _, v := range o.inner() {
+			enter(v.what)
+		}
+	}
+	for _, o := range m.slots {
+		enter(o)
+	}
+	return sum
 }
 
 // run makes the call on the model.
@@ -217,10 +311,14 @@ func (m *model) run(c call) answer {
 		}
 		return m.add(&thing{kind: api.Array, values: make([]inner, c.i)})
 	case "Bytes":
-		if len(c.s) > 64 {
-			return answer{e: api.ErrSize}
-		}
-		return m.add(&thing{kind: api.Bytes, text: c.s})
+		return m.addText(c.s)
+	case "Join":
+		return m.addText(o.text + m.live(c.i).text)
+	case "Copy":
+		return m.add(&thing{kind: o.kind, text: o.text, values: slices.Clone(o.values), room: o.room, keys: slices.Clone(o.keys), under: slices.Clone(o.under)})
+	case "Collect":
+		m.collect()
+		return answer{}
 	case "Table":
 		if c.i < 0 || c.i > 8 {
 			return answer{e: api.ErrSize}
@@ -326,14 +424,7 @@ func (m *model) places() map[*thing]int {
 	place := 0
 	for _, o := range m.things {
 		places[o] = place
-		switch o.kind {
-		case api.Array:
-			place += 1 + 2*len(o.values)
-		case api.Bytes:
-			place += 1 + (len(o.text)+7)/8
-		default:
-			place += 2 + 4*o.room
-		}
+		place += o.need()
 	}
 	return places
 }
@@ -434,9 +525,36 @@ func (m *model) someKey(r *rand.Rand, x int) api.Value {
 	return m.someValue(r)
 }
 
+// someText is mostly short, and at times about as long as may be.
+func someText(r *rand.Rand) string {
+	length := r.Intn(20)
+	if r.Intn(5) == 0 {
+		length = 20 + r.Intn(48)
+	}
+	text := make([]byte, length)
+	r.Read(text)
+	return string(text)
+}
+
+// someFlags are often none, mostly few, and at times as many as may be.
+func someFlags(r *rand.Rand) []bool {
+	count := 0
+	switch r.Intn(5) {
+	case 0:
+		count = api.MaxFlags
+	case 1, 2:
+		count = 1 + r.Intn(6)
+	}
+	flags := make([]bool, count)
+	for i := range flags {
+		flags[i] = r.Intn(3) == 0
+	}
+	return flags
+}
+
 // someCall is mostly one that goes well, so that there is something to change.
 func (m *model) someCall(r *rand.Rand) call {
-	names := []string{"Array", "Bytes", "Table", "Kind", "Len", "Text", "Place", "Get", "Set", "Set", "Find", "Put", "Put", "Put", "Cut", "Key", "Same", "Open", "Close", "Escape", "Keep", "Release"}
+	names := []string{"Array", "Bytes", "Table", "Kind", "Len", "Text", "Place", "Get", "Set", "Set", "Find", "Put", "Put", "Put", "Cut", "Key", "Same", "Open", "Close", "Escape", "Keep", "Release", "Collect", "Join", "Copy", "Copy"}
 	c := call{name: names[r.Intn(len(names))], i: someNumber(r, 4)}
 	kind := kindsOfCalls[c.name]
 	if r.Intn(8) == 0 {
@@ -446,6 +564,9 @@ func (m *model) someCall(r *rand.Rand) call {
 	if c.name == "Same" {
 		c.i = m.someHandle(r, 0)
 	}
+	if c.name == "Join" {
+		c.i = m.someHandle(r, kind)
+	}
 	if c.name == "Close" && r.Intn(4) > 0 {
 		c.i = m.open
 	}
@@ -454,54 +575,68 @@ func (m *model) someCall(r *rand.Rand) call {
 	}
 	c.k = m.someKey(r, c.x)
 	c.v = m.someValue(r)
-	text := make([]byte, r.Intn(20))
-	r.Read(text)
-	c.s = string(text)
+	c.s = someText(r)
 	return c
 }
 
-// P1, P4 to P11: heaps and the model answer the same to many calls, and have
+// P1, P4 to P15: heaps and the model answer the same to many calls, and have
 // the same words behind each.
 func TestModel(t *testing.T) {
 	came := map[string]map[api.Errno]int{}
-	for seed := int64(0); seed < 400; seed++ {
+	for name := range errorsOfCalls {
+		came[name] = map[api.Errno]int{}
+	}
+	for seed := int64(0); seed < 800; seed++ {
 		r := rand.New(rand.NewSource(seed))
 		limit := api.MaxWords
-		if seed%4 == 0 {
+		if seed%2 == 0 {
 			limit = 1 + r.Intn(200)
 		}
-		h := newHeap(t, limit)
-		m := &model{limit: limit}
-		history := ""
-		for step := 0; step < 300; step++ {
-			c := m.someCall(r)
-			history += fmt.Sprintf("%#v\n", c)
-			want := m.run(c)
-			got := ask(h, c)
-			if came[c.name] == nil {
-				came[c.name] = map[api.Errno]int{}
-			}
-			came[c.name][got.e]++
-			if got != want {
-				t.Fatalf("seed %d, limit %d: %+v, want %+v, to the last of\n%s", seed, limit, got, want, history)
-			}
-			if m.poisoned {
-				continue
-			}
-			words, e := h.Words()
-			if !slices.Equal(words, m.words()) || e != api.OK {
-				t.Fatalf("seed %d, limit %d: Words = %v, error %d, want %v, behind\n%s", seed, limit, words, e, m.words(), history)
-			}
-		}
+		m := &model{limit: limit, flags: someFlags(r)}
+		compare(t, r, m, came)
 	}
 	checkCame(t, came)
+}
+
+// compare makes many calls on a model and on a heap.
+func compare(t *testing.T, r *rand.Rand, m *model, came map[string]map[api.Errno]int) {
+	t.Helper()
+	h := newHeap(t, m.limit, m.flags...)
+	history := []call{}
+	for poisoned := 0; len(history) < 400 && poisoned < 40; {
+		c := m.someCall(r)
+		history = append(history, c)
+		want := m.run(c)
+		got := ask(h, c)
+		came[c.name][got.e]++
+		if got != want {
+			t.Fatalf("%+v, want %+v, to the last of%s", got, want, m.told(history))
+		}
+		if m.poisoned {
+			poisoned++
+			continue
+		}
+		words, e := h.Words()
+		if !slices.Equal(words, m.words()) || e != api.OK {
+			t.Fatalf("Words = %v, error %d, want %v, behind%s", words, e, m.words(), m.told(history))
+		}
+	}
+}
+
+// told tells what was called.
+func (m *model) told(history []call) string {
+	s := fmt.Sprintf(" New(%d, %v)", m.limit, m.flags)
+	for _, c := range history {
+		s += fmt.Sprintf("\n%#v", c)
+	}
+	return s
 }
 
 // errorsOfCalls are the errors that a call can answer, but ErrPoisoned, which
 // each can.
 var errorsOfCalls = map[string][]api.Errno{
 	"Array":   {api.OK, api.ErrSize, api.ErrHandles, api.ErrMemory},
-	"Bytes":   {api.OK, api.ErrHandles, api.ErrMemory},
+	"Bytes":   {api.OK, api.ErrSize, api.ErrHandles, api.ErrMemory},
 	"Table":   {api.OK, api.ErrSize, api.ErrHandles, api.ErrMemory},
 	"Kind":    {api.OK, api.ErrStale},
 	"Len":     {api.OK, api.ErrStale},
@@ -519,6 +654,9 @@ var errorsOfCalls = map[string][]api.Errno{
 	"Escape":  {api.OK, api.ErrStale, api.ErrScope, api.ErrHandles},
 	"Keep":    {api.OK, api.ErrStale, api.ErrHandles},
 	"Release": {api.OK, api.ErrStale, api.ErrScope},
+	"Collect": {api.OK},
+	"Join":    {api.OK, api.ErrStale, api.ErrKind, api.ErrSize, api.ErrHandles, api.ErrMemory},
+	"Copy":    {api.OK, api.ErrStale, api.ErrHandles, api.ErrMemory},
 }
 
 // checkCame looks whether each answer came often enough: one that hardly comes

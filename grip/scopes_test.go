@@ -334,7 +334,7 @@ func TestP10TwoHeaps(t *testing.T) {
 	checkError(t, "P10: Close", api.OK, one.Close(2))
 }
 
-// The document's example, as far as the calls but Collect go.
+// The document's examples ahead of Collect.
 func TestP10P11Example(t *testing.T) {
 	h := newHeap(t, 20)
 	checkNumber(t, "Array(2)", 0, api.OK)(h.Array(2))

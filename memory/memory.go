@@ -58,9 +58,16 @@ func (m *Memory) Kind(place int) int {
 	return m.word(place) / api.Head
 }
 
-// size is an array's length, the number of bytes, or a table's room.
-func (m *Memory) size(place int) int {
+// Size tells an array's length, the number of bytes, or a table's room.
+func (m *Memory) Size(place int) int {
 	return m.word(place) % api.Head
+}
+
+// spanAt tells how many words the object at a place takes.
+func (m *Memory) spanAt(place int) int {
+	kind := m.Kind(place)
+	size := m.Size(place)
+	return span(kind, size)
 }
 
 // Len tells how much the object at a place holds. A table's size is its room,
@@ -70,7 +77,7 @@ func (m *Memory) Len(place int) int {
 	if kind == api.Table {
 		return m.word(place + 1)
 	}
-	return m.size(place)
+	return m.Size(place)
 }
 
 // wordOfByte tells where the i-th byte of the bytes at a place lies.
@@ -97,7 +104,7 @@ func (m *Memory) Fill(place int, s string) {
 
 // Text tells the bytes at a place.
 func (m *Memory) Text(place int) string {
-	size := m.size(place)
+	size := m.Size(place)
 	text := []byte{}
 	for i := 0; i < size; i++ {
 		at := wordOfByte(place, i)
@@ -106,6 +113,16 @@ func (m *Memory) Text(place int) string {
 		text = append(text, byte(shifted))
 	}
 	return string(text)
+}
+
+// Copy writes the contents of the object at one place into the object at
+// another, which has the same kind and size.
+func (m *Memory) Copy(from int, to int) {
+	count := m.spanAt(from)
+	for i := 1; i < count; i++ {
+		word := m.word(from + i)
+		m.setWord(to+i, word)
+	}
 }
 
 // Words tells the words in use, as a list that nobody else holds.

@@ -1,5 +1,7 @@
 package memory
 
+import "grip/api"
+
 // Value is a value as it stands in two words: N is the number, or the place of
 // the object.
 type Value struct {
@@ -33,10 +35,25 @@ func (m *Memory) setValue(at int, v Value) {
 	m.setWord(at+1, v.N)
 }
 
+// values tells where the values (keys are some too) of the object at a place
+// begin, and how many there are. Entries that are not there are noughts, so
+// they can be told as so many times nothing.
+func (m *Memory) values(place int) (int, int) {
+	kind := m.Kind(place)
+	size := m.Size(place)
+	switch kind {
+	case api.Array:
+		return place + 1, size
+	case api.Table:
+		return entry(place, 0), size * wordsOfEntry / wordsOfValue
+	}
+	return place, 0
+}
+
 // element tells where the i-th value of the array at a place lies; false if
 // there is none.
 func (m *Memory) element(place int, i int) (int, bool) {
-	if i < 0 || i >= m.size(place) {
+	if i < 0 || i >= m.Size(place) {
 		return 0, false
 	}
 	return place + 1 + wordsOfValue*i, true
@@ -122,7 +139,7 @@ func (m *Memory) Put(place int, k Value, v Value) bool {
 		return true
 	}
 	count := m.Len(place)
-	if count >= m.size(place) {
+	if count >= m.Size(place) {
 		return false
 	}
 	m.setEntry(place, count, k, v)

@@ -45,6 +45,28 @@ func (s *Slots) Place(x int) (int, bool) {
 	return s.list[i].place, true
 }
 
+// Places tells the places of the live handles' objects, by rising slots.
+func (s *Slots) Places() []int {
+	places := []int{}
+	for i := 0; i < api.MaxHandles; i++ {
+		if s.list[i].live {
+			places = append(places, s.list[i].place)
+		}
+	}
+	return places
+}
+
+// Move gives the live handles' objects new places, in the order of Places.
+func (s *Slots) Move(places []int) {
+	next := 0
+	for i := 0; i < api.MaxHandles; i++ {
+		if s.list[i].live && next < len(places) {
+			s.list[i].place = places[next]
+			next++
+		}
+	}
+}
+
 // free tells the lowest slot that no live handle has, or MaxHandles.
 func (s *Slots) free() int {
 	for i := 0; i < api.MaxHandles; i++ {

@@ -1,6 +1,7 @@
 package slots
 
 import (
+	"slices"
 	"testing"
 
 	"grip/api"
@@ -139,4 +140,48 @@ func TestHandlesEnd(t *testing.T) {
 		t.Error("Release of a kept handle, and once more")
 	}
 	check(false, true, false, false, false)
+}
+
+// Places tells the live handles' places by rising slots, each handle's own;
+// Move puts others there, and neither ends nor makes a handle.
+func TestPlacesAndMove(t *testing.T) {
+	s := Slots{}
+	if l := s.Places(); len(l) != 0 {
+		t.Errorf("Places without handles = %v", l)
+	}
+	s.Move([]int{})
+	for _, place := range []int{30, 10, 20, 10, 0} {
+		s.Add(place, Kept)
+	}
+	s.Release(2)
+	given := s.Places()
+	if !slices.Equal(given, []int{30, 10, 10, 0}) {
+		t.Errorf("Places = %v", given)
+	}
+	s.Move([]int{0, 5, 6, 7})
+	if !slices.Equal(given, []int{30, 10, 10, 0}) {
+		t.Errorf("Move wrote into a list: %v", given)
+	}
+	for x, want := range []int{0, 5, 0, 6, 7} {
+		if place, live := s.Place(x); place != want || live != (x != 2) {
+			t.Errorf("Place(%d) = %d, %v, want %d", x, place, live, want)
+		}
+	}
+	if x, made := s.Add(9, 0); x != 34 || !made {
+		t.Errorf("the next handle = %d, %v", x, made)
+	}
+	if l := s.Places(); !slices.Equal(l, []int{0, 5, 9, 6, 7}) {
+		t.Errorf("Places = %v", l)
+	}
+}
+
+// A list that is too short leaves the other handles as they are.
+func TestMoveOfTooFew(t *testing.T) {
+	s := Slots{}
+	s.Add(3, 0)
+	s.Add(4, 0)
+	s.Move([]int{1})
+	if l := s.Places(); !slices.Equal(l, []int{1, 4}) {
+		t.Errorf("Places = %v", l)
+	}
 }
